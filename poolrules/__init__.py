@@ -1,0 +1,1 @@
+"""Poolrules: a pool of facts changed by rules."""
