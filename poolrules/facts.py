@@ -41,7 +41,7 @@ def facts_text(facts):
 
 
 def read_fact(text):
-    found = pieces(text)
+    found = pieces(text, MARKS)
     reading = fact_at(found, 0)
     if reading[1] != len(found):
         raise NoLine(f"more than one fact: {text!r}")
@@ -49,10 +49,14 @@ def read_fact(text):
 
 
 def read_facts(text):
-    found = pieces(text)
-    facts = []
+    found = pieces(text, MARKS)
     if len(found) == 0:
-        return facts
+        return []
+    return row_of_facts(found)
+
+
+def row_of_facts(found):
+    facts = []
     place = 0
     while True:
         reading = fact_at(found, place)
@@ -61,12 +65,12 @@ def read_facts(text):
         if place == len(found):
             return facts
         if found[place] != ",":
-            raise NoLine(f"no row of facts: {text!r}")
+            raise NoLine(f"no comma behind a fact: {found!r}")
         place += 1
 
 
 # Blanks part names and mean nothing else, so the pieces are told without them.
-def pieces(text):
+def pieces(text, marks):
     found = []
     place = 0
     while place < len(text):
@@ -76,10 +80,10 @@ def pieces(text):
             place = end
             continue
         sign = text[place]
-        if sign in MARKS:
+        if sign in marks:
             found.append(sign)
         elif sign != " ":
-            raise NoLine(f"no sign of a fact: {sign!r}")
+            raise NoLine(f"no name and no mark: {sign!r}")
         place += 1
     return found
 

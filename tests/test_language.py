@@ -47,6 +47,28 @@ def trees():
     return [(path.name, ast.parse(path.read_text())) for path in files()]
 
 
+def top_names(tree):
+    """The names that a file itself binds at its top, each as often as it is bound."""
+    names = [node.name for node in tree.body if isinstance(node, (ast.FunctionDef, ast.ClassDef))]
+    return names + [target.id for node in tree.body if isinstance(node, ast.Assign) for target in node.targets]
+
+
+def imported(tree):
+    return [alias.name for node in tree.body if isinstance(node, ast.ImportFrom) for alias in node.names]
+
+
+def parents(tree):
+    return {id(child): node for node in ast.walk(tree) for child in ast.iter_child_nodes(node)}
+
+
+def is_call_of(node, names):
+    return isinstance(node, ast.Call) and isinstance(node.func, ast.Name) and node.func.id in names
+
+
+def is_method_call(node, names):
+    return isinstance(node, ast.Call) and isinstance(node.func, ast.Attribute) and node.func.attr in names
+
+
 def walked(kinds):
     return [(name, node) for name, tree in trees() for node in ast.walk(tree) if isinstance(node, kinds)]
 
@@ -87,10 +109,7 @@ class FormsTest(unittest.TestCase):
                     self.assertIsInstance(node, (ast.ImportFrom, ast.FunctionDef, ast.ClassDef, ast.Assign))
 
     def test_imports_come_from_the_file_that_defines_the_name(self):
-        defined = {
-            "poolrules." + path.stem: [getattr(node, "name", "") for node in ast.parse(path.read_text()).body]
-            for path in files()
-        }
+        defined = {"poolrules." + path.stem: top_names(ast.parse(path.read_text())) for path in files()}
         for name, node in walked(ast.ImportFrom):
             for alias in node.names:
                 with self.subTest((name, alias.name)):
@@ -129,8 +148,10 @@ class NamesTest(unittest.TestCase):
     def test_names(self):
         for name, node in walked((ast.Name, ast.arg, ast.FunctionDef, ast.ClassDef, ast.Attribute)):
             called = [getattr(node, field) for field in ("id", "arg", "name", "attr") if hasattr(node, field)][0]
+            if called in SPECIAL:
+                continue
             with self.subTest((name, node.lineno, called)):
-                self.assertTrue(called in SPECIAL or re.match(r"[A-Za-z][A-Za-z0-9_]*$", called))
+                self.assertRegex(called, r"^[A-Za-z][A-Za-z0-9_]*$")
                 self.assertNotIn(called, UNUSED)
                 if isinstance(node, ast.Name) and isinstance(node.ctx, ast.Load):
                     self.assertTrue(called in OWN or not hasattr(builtins, called))
@@ -142,7 +163,132 @@ class NamesTest(unittest.TestCase):
         for name, node in walked(ast.Call):
             if isinstance(node.func, ast.Attribute):
                 with self.subTest((name, node.lineno)):
-                    self.assertIn(node.func.attr, METHODS | own)
+                    self.assertIn(node.func.attr, METHODS | own | SPECIAL)
+
+    def test_each_name_once(self):
+        for name, tree in trees():
+            top = top_names(tree) + imported(tree)
+            self.assertEqual(sorted(set(top)), sorted(top), name)
+            classes = [node.name for node in tree.body if isinstance(node, ast.ClassDef)]
+            for node in ast.walk(tree):
+                local = node.arg if isinstance(node, ast.arg) else None
+                if isinstance(node, ast.Name) and isinstance(node.ctx, ast.Store):
+                    local = node.id
+                if local is not None:
+                    with self.subTest((name, node.lineno, local)):
+                        self.assertNotIn(local, classes + imported(tree))
+
+    def test_no_two_files_draw_from_one_another(self):
+        drawn = {
+            "poolrules." + path.stem: [node.module for node in ast.parse(path.read_text()).body
+                                       if isinstance(node, ast.ImportFrom)]
+            for path in files()
+        }
+        while drawn:
+            free = [name for name in drawn if not any(other in drawn for other in drawn[name])]
+            self.assertNotEqual(free, [], drawn)
+            for name in free:
+                del drawn[name]
+
+    def test_methods_and_values_of_classes(self):
+        methods = {node.name for _, tree in walked(ast.ClassDef) for node in tree.body if isinstance(node, ast.FunctionDef)}
+        values = {
+            node.attr for _, node in walked(ast.Attribute)
+            if isinstance(node.ctx, ast.Store)
+        }
+        self.assertEqual(methods & values, set())
+        python = {name for kind in (str, int, list, dict, set, bytes, tuple) for name in dir(kind)}
+        self.assertEqual((methods - SPECIAL - METHODS - {"add", "discard"}) & python, set())
+        allowed = {"count", "index", "title", "find", "get", "join", "lower", "upper", "split", "strip", "copy", "add"}
+        self.assertEqual((values - allowed) & python, set())
+
+    def test_classes_stand_only_where_they_may(self):
+        classes = {node.name for _, node in walked(ast.ClassDef)}
+        for name, tree in trees():
+            above = parents(tree)
+            for node in ast.walk(tree):
+                if isinstance(node, ast.Name) and node.id in classes:
+                    over = above[id(node)]
+                    with self.subTest((name, node.lineno, node.id)):
+                        self.assertTrue(
+                            isinstance(over, (ast.ClassDef, ast.ExceptHandler)) or is_call_of(over, ("isinstance",))
+                            or (isinstance(over, ast.Call) and over.func is node)
+                            or (isinstance(over, ast.Attribute) and over.attr == "__init__"))
+
+
+class UseTest(unittest.TestCase):
+    def test_is(self):
+        for name, node in walked(ast.Compare):
+            for how, value in zip(node.ops, node.comparators):
+                if isinstance(how, (ast.Is, ast.IsNot)):
+                    with self.subTest((name, node.lineno)):
+                        self.assertTrue(isinstance(value, ast.Constant) and value.value in (None, True, False))
+
+    def test_keywords(self):
+        known = {"sorted": ("key", "reverse"), "min": ("key", "default"), "max": ("key", "default"),
+                 "sum": ("start",), "enumerate": ("start",), "zip": ("strict",)}
+        for name, node in walked(ast.Call):
+            for keyword in node.keywords:
+                with self.subTest((name, node.lineno)):
+                    self.assertIn(keyword.arg, known.get(getattr(node.func, "id", ""), ()))
+
+    def test_walked_at_once(self):
+        for name, tree in trees():
+            above = parents(tree)
+            for node in ast.walk(tree):
+                if not is_call_of(node, ("zip", "enumerate", "reversed", "range")) and \
+                        not is_method_call(node, ("items", "keys", "values")):
+                    continue
+                over = above[id(node)]
+                with self.subTest((name, node.lineno)):
+                    if isinstance(over, (ast.For, ast.comprehension)):
+                        self.assertIs(over.iter, node)
+                    else:
+                        self.assertTrue(is_call_of(over, (
+                            "list", "tuple", "dict", "sorted", "sum", "any", "all", "enumerate", "zip", "min", "max")))
+
+    def test_sets(self):
+        for name, tree in trees():
+            above = parents(tree)
+            for node in ast.walk(tree):
+                if is_call_of(node, ("set", "frozenset")):
+                    over = above[id(node)]
+                    with self.subTest((name, node.lineno)):
+                        self.assertTrue(is_call_of(over, ("sorted", "len")) or isinstance(over, (ast.Compare, ast.BinOp)))
+                self.assertNotIsInstance(node, ast.Set)
+
+    def test_what_a_loop_walks_is_not_changed_in_it(self):
+        changing = ("append", "clear", "extend", "insert", "pop", "remove", "reverse", "setdefault", "update")
+        for name, node in walked(ast.For):
+            walks = node.iter
+            while isinstance(walks, ast.Call) and walks.args and is_call_of(walks, ("enumerate", "zip", "reversed")):
+                walks = walks.args[0]
+            if is_method_call(walks, ("items", "keys", "values")):
+                walks = walks.func.value
+            changed = [inner.func.value for inner in ast.walk(node) if is_method_call(inner, changing)]
+            changed += [inner.value for inner in ast.walk(node)
+                        if isinstance(inner, ast.Subscript) and isinstance(inner.ctx, ast.Store)]
+            with self.subTest((name, node.lineno)):
+                self.assertNotIn(ast.dump(walks), [ast.dump(value).replace("Store()", "Load()") for value in changed])
+
+    def test_powers_are_written(self):
+        for name, node in walked(ast.BinOp):
+            if isinstance(node.op, ast.Pow):
+                with self.subTest((name, node.lineno)):
+                    self.assertIsInstance(node.right, ast.Constant)
+
+    def test_texts_with_names_are_plain(self):
+        for name, node in walked(ast.FormattedValue):
+            with self.subTest((name, node.lineno)):
+                self.assertIsInstance(node.value, ast.Name)
+                self.assertIsNone(node.format_spec)
+                self.assertIn(node.conversion, (-1, ord("r")))
+
+    def test_errors_are_taken_by_name(self):
+        for name, node in walked(ast.ExceptHandler):
+            with self.subTest((name, node.lineno)):
+                self.assertIsInstance(node.type, ast.Name)
+                self.assertNotIn(node.type.id, ("Exception", "TypeError"))
 
 
 if __name__ == "__main__":
