@@ -1,7 +1,7 @@
 """Books: kinds of facts and rules, how they are read and written."""
 
 from poolrules.errors import BadCall, BadTake, NoName, Twice
-from poolrules.facts import facts_text, is_open
+from poolrules.facts import facts_text, is_great
 from poolrules.pools import check_facts, check_taken
 from poolrules.reader import RULE_WORD, line_pieces, read_kind, read_rule, told_lines
 
@@ -30,7 +30,7 @@ def open_names(facts):
     found = {}
     for fact in facts:
         for name in fact[1]:
-            if is_open(name):
+            if is_great(name):
                 found[name] = True
     return list(found)
 
@@ -79,7 +79,7 @@ def check_call(lasts, rule):
 
 def check_names(rule):
     for name in said_names(rule):
-        if is_open(name) and name not in rule.names:
+        if is_great(name) and name not in rule.names:
             raise NoName(f"it stands in no head of the rule: {name!r}")
 
 

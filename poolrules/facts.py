@@ -25,6 +25,11 @@ def is_name(text):
     return 1 <= len(text) <= LONGEST and all([is_name_sign(sign) for sign in text])
 
 
+# Of what is known to be a name, the first sign alone tells whether it is open.
+def is_great(name):
+    return name[0] in GREAT
+
+
 # Python's isalnum would take letters of other alphabets, too.
 def is_name_sign(sign):
     return sign in SMALL or sign in GREAT or sign in FIGURES

@@ -1,6 +1,6 @@
 """Looks: what a rule asks of two names ahead of a step."""
 
-from poolrules.facts import is_word
+from poolrules.facts import is_great
 
 
 class Look:
@@ -26,7 +26,7 @@ class Same(Look):
 # Open names may still be told the same, so only words are surely unlike.
 class Unlike(Look):
     def holds(self, one, other):
-        return is_word(one) and is_word(other) and one != other
+        return not is_great(one) and not is_great(other) and one != other
 
     def word(self):
         return "unlike"

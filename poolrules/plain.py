@@ -1,7 +1,7 @@
 """The plain player: which steps fit a pool, and the pool behind a step."""
 
 from poolrules.errors import NoStep, NotFitting
-from poolrules.facts import is_word
+from poolrules.facts import is_great
 from poolrules.pools import know, moved, tell_same, written
 
 
@@ -116,7 +116,7 @@ class Reading:
         self.heads = [written(stand, fact) for fact in rule.taken + rule.kept]
         self.given = [written(stand, fact) for fact in rule.given]
         self.told = [pair_written(stand, pair) for pair in rule.told]
-        self.words = dict([(name, name) for name in self.said() if is_word(name)])
+        self.words = dict([(name, name) for name in self.said() if not is_great(name)])
         self.loose = loose_heads(self)
 
     def said(self):
@@ -138,7 +138,7 @@ def loose_heads(reading):
 
 
 def asked_once(asking, name):
-    return is_word(name) or len([names for names in asking if name in names]) == 1
+    return not is_great(name) or len([names for names in asking if name in names]) == 1
 
 
 # One search for the ways in which a rule's heads are there in a pool. Bound is

@@ -1,7 +1,7 @@
 """Pools: what they hold, how they are changed and written."""
 
 from poolrules.errors import BadArgs, BadTake, NoFact, NoKind, NoName
-from poolrules.facts import facts_text, is_open, is_word
+from poolrules.facts import facts_text, is_great
 
 EMPTY = ((), (), (), False)
 BROKEN = ((), (), (), True)
@@ -32,7 +32,7 @@ def moved(kinds, pool, taken, put, told):
 
 
 def stands_for(pool, name):
-    if is_word(name):
+    if not is_great(name):
         return name
     for pair in pool[2]:
         if pair[0] == name:
@@ -86,7 +86,7 @@ def taken_out(passing, taken):
 
 def know(stand, names):
     for name in names:
-        if is_open(name):
+        if is_great(name):
             stand.setdefault(name, name)
 
 
@@ -96,7 +96,7 @@ def tell_same(stand, one, other):
     second = stand.get(other, other)
     if first == second:
         return True
-    if is_word(first) and is_word(second):
+    if not is_great(first) and not is_great(second):
         return False
     chief = chosen(first, second)
     for name in list(stand):
@@ -106,9 +106,9 @@ def tell_same(stand, one, other):
 
 
 def chosen(first, second):
-    if is_word(first):
+    if not is_great(first):
         return first
-    if is_word(second):
+    if not is_great(second):
         return second
     return min(first, second)
 

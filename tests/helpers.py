@@ -179,3 +179,28 @@ def chance_pool(chance, book, most=8, names=("a", "b", "c", "X", "Y", "Z1")):
     facts = [chance_fact(chance, book.kinds, names) for _ in range(chance.randint(0, most))]
     pairs = [(chance.choice(names), chance.choice(names[3:])) for _ in range(chance.choice((0, 0, 0, 1, 2)))]
     return moved(book.kinds, EMPTY, [], facts, pairs)
+
+
+def small_book(chance):
+    """A book with at most three passing heads and one look unlike in a rule, and two words."""
+    kinds = chance_kinds(chance, 3)
+    passing = [kind for kind in kinds if not kind[2]] or [("z", 1, False)]
+    lasting = [kind for kind in kinds if kind[2]]
+    kinds = passing + lasting
+    lines = [f"{'lasting' if kind[2] else 'passing'} {kind[0]} {kind[1]}" for kind in kinds]
+    for number in range(chance.randint(1, 2)):
+        names = ["A", "B", "C"][:chance.randint(1, 3)] + ["a", "b"][:chance.choice((0, 0, 1, 2))]
+        heads = [chance_fact(chance, passing, names) for _ in range(chance.randint(1, 3))]
+        takes = chance.randint(0 if lasting else 1, len(heads))
+        kept = heads[takes:] + [chance_fact(chance, lasting, names) for _ in range(chance.randint(0, 1)) if lasting]
+        said = sorted({name for fact in heads + kept for name in fact[1]}) + ["a"]
+        parts = ["take " + row_line(heads[:takes])] if takes else []
+        parts += ["keep " + row_line(kept)] if kept else []
+        looks = [f"{chance.choice(said)} same {chance.choice(said)}"] if chance.random() < 0.3 else []
+        looks += [f"{chance.choice(said)} unlike {chance.choice(said)}"] if chance.random() < 0.5 else []
+        parts += ["look " + ", ".join(looks)] if looks else []
+        given = [chance_fact(chance, kinds if takes else lasting, said) for _ in range(chance.randint(0, 2))]
+        parts += ["put " + row_line(given)] if given else []
+        parts += [f"tell {chance.choice(said)} = {chance.choice(said)}"] if chance.random() < 0.4 else []
+        lines.append(f"rule r{number}: " + "; ".join(parts))
+    return read_book("\n".join(lines))
