@@ -81,9 +81,12 @@ class Layout:
         for fact in pool[1]:
             self.lasting[fact] = True
         for fact in list(self.counts) + list(self.lasting):
-            for key in keys_of(fact):
-                row = self.shelf.setdefault(key, {})
-                row[fact] = True
+            self.lay(fact)
+
+    def lay(self, fact):
+        for key in keys_of(fact):
+            row = self.shelf.setdefault(key, {})
+            row[fact] = True
 
     def row(self, key):
         return self.shelf.get(key, {})

@@ -1,7 +1,7 @@
 """The lines of books and sessions, and how their parts are read."""
 
 from poolrules.errors import NoLine
-from poolrules.facts import is_name, is_small_word, piece_at, pieces, row_of_facts
+from poolrules.facts import is_name, is_small_word, name_end, piece_at, pieces, row_of_facts
 from poolrules.looks import Same, Unlike
 
 LINE_MARKS = "(),:;="
@@ -18,6 +18,13 @@ def told_lines(text):
 def is_told(line):
     bare = line.strip(" ")
     return bare != "" and bare[0] != "#"
+
+
+# Whether a line, by its first name, can be one of a book's alone.
+def is_book_line(line):
+    bare = line.strip(" ")
+    word = bare[:name_end(bare, 0)]
+    return word == RULE_WORD or word in KIND_WORDS
 
 
 def line_pieces(line):
