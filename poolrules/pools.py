@@ -26,9 +26,15 @@ def moved(kinds, pool, taken, put, told):
         know(stand, pair)
         if not tell_same(stand, pair[0], pair[1]):
             return BROKEN
-    passing = left + [fact for fact in put if fact[0] not in lasts]
-    lasting = list(pool[1]) + [fact for fact in put if fact[0] in lasts]
-    return settled(stand, passing, lasting)
+    lasting = list(pool[1])
+    # Names told the same now may stand in facts put in long before.
+    if len(told) > 0:
+        left = [written(stand, fact) for fact in left]
+        lasting = [written(stand, fact) for fact in lasting]
+    new = [written(stand, fact) for fact in put]
+    passing = left + [fact for fact in new if fact[0] not in lasts]
+    lasting = lasting + [fact for fact in new if fact[0] in lasts]
+    return (tuple(sorted(passing)), tuple(sorted(set(lasting))), tuple(sorted(stand.items())), False)
 
 
 def stands_for(pool, name):
@@ -69,6 +75,8 @@ def written(stand, fact):
 
 
 def taken_out(passing, taken):
+    if len(taken) == 0:
+        return list(passing)
     wanted = {}
     for fact in taken:
         wanted[fact] = wanted.get(fact, 0) + 1
@@ -111,11 +119,3 @@ def chosen(first, second):
     if not is_great(second):
         return second
     return min(first, second)
-
-
-# Names told the same now may stand in facts put in long before, so all are
-# written anew, and lasting facts that were unlike may have become one.
-def settled(stand, passing, lasting):
-    held = sorted([written(stand, fact) for fact in passing])
-    once = sorted(set([written(stand, fact) for fact in lasting]))
-    return (tuple(held), tuple(once), tuple(sorted(stand.items())), False)

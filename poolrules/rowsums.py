@@ -29,6 +29,12 @@ def slimmed(row):
     return [number // common for number in row]
 
 
+# The row made nought at a place with the help of another one, whose number there
+# is above nought: so a multiple of the row that is above nought goes into it.
+def cleared(row, other, place):
+    return slimmed(mixed(other[place], row, 0 - row[place], other))
+
+
 # The place of the first number that is not nought, or None.
 def first_place(row):
     for place, number in enumerate(row):

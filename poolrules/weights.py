@@ -1,6 +1,6 @@
 """Weights: a book's taking rules all fall by some row of numbers, or some of them go round."""
 
-from poolrules.rowsums import mixed, slimmed
+from poolrules.rowsums import cleared, slimmed
 from poolrules.tallies import effects, passing_kinds
 
 
@@ -60,10 +60,6 @@ def leaving(lines, basis, column):
         if line[column] > 0 and (found is None or basis[place] < basis[found]):
             found = place
     return found
-
-
-def cleared(line, pivot, column):
-    return slimmed(mixed(pivot[column], line, 0 - line[column], pivot))
 
 
 # How the rules' columns grow together with the one that has no bound.

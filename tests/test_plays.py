@@ -3,11 +3,11 @@ import time
 import unittest
 
 from helpers import (
-    BROKEN, EMPTY, after_plainly, chance_book, chance_pool, pool_of, refused, steps_plainly, vars_of, walk)
+    BROKEN, EMPTY, after_plainly, chance_book, chance_fact, chance_pool, pool_of, refused, steps_plainly, vars_of, walk)
 from poolrules.books import book_text, read_book
 from poolrules.errors import TooGreat
 from poolrules.plays import ends, first_play, play
-from poolrules.pools import pool_text
+from poolrules.pools import pool_text, start_pool
 
 KINDS = "passing p 1\npassing q 2\npassing n 0\nlasting e 2\nlasting m 0\n"
 
@@ -152,6 +152,24 @@ class ChanceTest(unittest.TestCase):
             self.assertEqual((done, behind), play_plainly(book, pool, [0] * 6), (book_text(book), pool))
             self.assertEqual(walk(self, book, pool, done), behind)
             self.assertEqual((vars_of(book), picks), kept)
+
+    def test_the_first_step_is_the_least_of_many(self):
+        chance = random.Random(23)
+        names = ["a", "b", "c", "d", "X", "Y", "Z"]
+        for rule in (
+            "take q(A,B); keep e(B,C)", "take q(A,B), q(B,C); put q(C,A)", "take q(A,B); keep e(C,B), e(C,A)",
+            "take p(A); keep q(B,A), e(C,B); put q(A,A)", "keep q(A,B), e(B,C); put e(A,C)", "take q(A,B), p(C); look C same B",
+            "take p(A), p(B), q(C,A); look A unlike C", "keep q(A,B), q(C,B); tell A = C", "take q(A,B); look B same c; put p(A)",
+        ):
+            book = book_of("rule r: " + rule)
+            for _ in range(25):
+                facts = [chance_fact(chance, [kind for kind in book.kinds if kind[1] > 0], names) for _ in range(chance.randint(4, 18))]
+                pool = start_pool(book.kinds, facts)
+                for _ in range(4):
+                    fitting = steps_plainly(book, pool)
+                    done, behind = first_play(book, pool, 1)
+                    self.assertEqual(done, fitting[:1], (rule, pool))
+                    pool = behind
 
     def test_ends(self):
         chance = random.Random(22)
