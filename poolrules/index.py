@@ -31,15 +31,14 @@ class Index(Layout):
     # Writes one name as another in all facts, and tells those written anew.
     def retell(self, name, chief):
         stand = {name: chief}
-        anew = []
-        for fact in [fact for fact in self.counts if name in fact[1]]:
+        passing = [fact for fact in self.counts if name in fact[1]]
+        lasting = [fact for fact in self.lasting if name in fact[1]]
+        for fact in passing:
             times = self.counts.pop(fact)
             self.lift(fact)
-            anew.append(written(stand, fact))
-            self.put_passing(anew[-1], times)
-        for fact in [fact for fact in self.lasting if name in fact[1]]:
+            self.put_passing(written(stand, fact), times)
+        for fact in lasting:
             self.lasting.pop(fact)
             self.lift(fact)
-            anew.append(written(stand, fact))
-            self.put_lasting(anew[-1])
-        return anew
+            self.put_lasting(written(stand, fact))
+        return [written(stand, fact) for fact in passing + lasting]

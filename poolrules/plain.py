@@ -121,6 +121,7 @@ class Reading:
         self.told = [pair_written(stand, pair) for pair in rule.told]
         self.words = dict([(name, name) for name in self.said() if not is_great(name)])
         self.loose = loose_heads(self)
+        self.wanted = list(dict([(kind_key(head[0]), True) for head in self.heads]))
 
     def said(self):
         names = list(self.names)
@@ -234,9 +235,11 @@ def matched(bound, head, fact):
     return more
 
 
+# Most rules want a kind that a small pool has not, so this is asked first.
 def searched(layout, reading, bound, most):
     search = Search(layout, reading, most)
-    search.walk(bound, reading.heads)
+    if all([key in layout.shelf for key in reading.wanted]):
+        search.walk(bound, reading.heads)
     return search.found
 
 

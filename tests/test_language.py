@@ -108,6 +108,14 @@ class FormsTest(unittest.TestCase):
                 with self.subTest((name, node.lineno)):
                     self.assertIsInstance(node, (ast.ImportFrom, ast.FunctionDef, ast.ClassDef, ast.Assign))
 
+    def test_values_of_the_top_are_plain(self):
+        for name, tree in trees():
+            for node in tree.body:
+                if isinstance(node, ast.Assign):
+                    for inner in ast.walk(node.value):
+                        with self.subTest((name, node.lineno)):
+                            self.assertIsInstance(inner, (ast.Constant, ast.Tuple, ast.Load))
+
     def test_imports_come_from_the_file_that_defines_the_name(self):
         defined = {"poolrules." + path.stem: top_names(ast.parse(path.read_text())) for path in files()}
         for name, node in walked(ast.ImportFrom):

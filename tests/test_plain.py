@@ -7,7 +7,9 @@ from helpers import (
 from poolrules.books import book_text, read_book
 from poolrules.errors import NoStep, NotFitting
 from poolrules.plain import after, fits, steps
+from poolrules.plays import first_play
 from poolrules.pools import pool_text
+from poolrules.quick import Quick
 
 KINDS = "passing p 1\npassing q 2\npassing n 0\nlasting e 2\nlasting m 0\n"
 
@@ -220,6 +222,18 @@ class SizeTest(unittest.TestCase):
         self.assertEqual(found, sorted(found))
         for step in found[:50]:
             after(book, pool, step)
+        self.assertLess(time.monotonic() - start, 20)
+
+    def test_heads_that_ask_nothing_of_others_do_not_make_a_long_search(self):
+        start = time.monotonic()
+        book = book_of(
+            "rule r: keep p(A), p(B), p(C), e(D,F); put e(D,F)\nrule s: take p(A), p(B), p(C), q(D,F); keep e(F,D); look D unlike F\n"
+            "rule t: keep p(A), p(B), p(C), p(D); put e(v0,v1)")
+        row = [f"p(N{k})" for k in range(60)] + [f"e(v{k},v{k + 1})" for k in range(120)] + [f"q(v{k},v{k + 1})" for k in range(120)]
+        pool = pool_of(book, ", ".join(row))
+        self.assertEqual(steps(book, pool), [])
+        self.assertEqual(first_play(book, pool, 1), ([], pool))
+        self.assertIsNone(Quick(book, pool).step())
         self.assertLess(time.monotonic() - start, 20)
 
 
