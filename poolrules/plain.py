@@ -196,6 +196,8 @@ class Search:
         return True
 
     def narrowest(self, bound, heads):
+        if len(heads) == 1:
+            return 0
         best = 0
         least = None
         for place, head in enumerate(heads):
